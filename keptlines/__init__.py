@@ -1,0 +1,1 @@
+"""Keptlines: command lines that keep their meaning."""
