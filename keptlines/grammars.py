@@ -20,6 +20,11 @@ def is_tuple_of(thing, count):
     return isinstance(thing, tuple) and len(thing) == count
 
 
+def is_whole(thing):
+    """Whether the thing, of any kind, is an integer."""
+    return isinstance(thing, int) and not isinstance(thing, bool)
+
+
 def is_option(thing):
     """Whether the thing, of any kind, is an OPTION."""
     if not is_tuple_of(thing, 3):
@@ -134,14 +139,18 @@ def count_arity(places, arity):
     return len([place for place in places if place[1] == arity])
 
 
+def span(places):
+    """The least and the greatest number of place words, None for no greatest."""
+    fewest = count_arity(places, "one")
+    if count_arity(places, "many") > 0:
+        return fewest, None
+    return fewest, fewest + count_arity(places, "may")
+
+
 def numbers(grammar):
     """The least and the greatest number of place words, None for no greatest."""
     need_grammar(grammar)
-    places = grammar[1]
-    least = count_arity(places, "one")
-    if count_arity(places, "many") > 0:
-        return least, None
-    return least, least + count_arity(places, "may")
+    return span(grammar[1])
 
 
 def shares(places, count):

@@ -1,6 +1,7 @@
 """How a LINE is read by a GRAMMAR, and whether it lasts."""
 
-from keptlines.grammars import need_grammar, reads_numbers, shares, told_names
+from keptlines.grammars import need_grammar
+from keptlines.rules import Rules
 from keptlines.words import is_dashed, is_number, need_line
 
 # The KINDs that never have a value, and those that can do without one.
@@ -9,22 +10,28 @@ LONE = ("flag", "count", "maybe")
 
 
 class Reading:
-    """What one GRAMMAR has read so far, WORD by WORD."""
+    """What was read so far of one line, WORD by WORD, by the Rules of a GRAMMAR."""
 
-    def __init__(self, grammar):
-        options, places, modes = grammar
-        self.told = told_names(grammar)
-        self.kinds = {name: kind for name, _, kind in options}
-        self.letters = {letter: name for name, letter, _ in options if letter != ""}
-        self.places = places
-        self.mixed = modes[1]
-        self.minus = reads_numbers(grammar)
+    def __init__(self, rules):
+        self.rules = rules
         self.closed = False
         self.awaited = None
         self.refused = False
-        self.lasting = True
+        # What a LATER GRAMMAR may read otherwise: a shortening, and a NUMBER WORD.
+        self.shortened = None
+        self.numbered = False
         self.got = {}
         self.placed = []
+
+    def is_accepted(self):
+        """Whether the line is ACCEPTED if it ends here."""
+        if self.refused or self.awaited is not None:
+            return False
+        return self.rules.dealt(len(self.placed)) is not None
+
+    def is_lasting(self):
+        """Whether no LATER GRAMMAR reads any WORD otherwise."""
+        return self.shortened is None and not self.numbered
 
     def read_word(self, word):
         """Read the next WORD, of any length."""
@@ -40,9 +47,8 @@ class Reading:
             self.closed = True
         elif word.startswith("--"):
             self.read_long(word)
-        elif self.minus and is_number(word):
-            # A LATER GRAMMAR may have one of the figures as a LETTER.
-            self.lasting = False
+        elif self.rules.minus and is_number(word):
+            self.numbered = True
             self.read_place_word(word)
         else:
             self.read_letters(word)
@@ -50,22 +56,21 @@ class Reading:
     def read_place_word(self, word):
         """Read a place word while the line is not closed."""
         self.placed.append(word)
-        if not self.mixed:
+        if not self.rules.mixed:
             self.closed = True
 
     def read_long(self, word):
         """Read a WORD that begins with "--" and tells an OPTION."""
         told, equals, value = word[2:].partition("=")
-        if told not in self.told:
+        if told not in self.rules.told:
             self.refused = True
             return
-        name = self.told[told]
+        name = self.rules.told[told]
         if told != name:
-            # A LATER GRAMMAR may have a NAME that makes the shortening tell nothing.
-            self.lasting = False
+            self.shortened = told
         if equals == "":
             self.give_or_await(name)
-        elif self.kinds[name] in VALUELESS:
+        elif self.rules.kinds[name] in VALUELESS:
             self.refused = True
         else:
             self.give(name, value)
@@ -73,12 +78,12 @@ class Reading:
     def read_letters(self, word):
         """Read a WORD of "-" and LETTERs, perhaps with a value behind them."""
         for at in range(1, len(word)):
-            if word[at] not in self.letters:
+            if word[at] not in self.rules.letters:
                 self.refused = True
                 return
-            name = self.letters[word[at]]
+            name = self.rules.letters[word[at]]
             rest = word[at + 1:]
-            if self.kinds[name] in VALUELESS:
+            if self.rules.kinds[name] in VALUELESS:
                 self.give(name, 1)
             elif rest == "":
                 self.give_or_await(name)
@@ -88,7 +93,7 @@ class Reading:
 
     def give_or_await(self, name):
         """Note that an OPTION stands in the line without a value of its own."""
-        if self.kinds[name] in LONE:
+        if self.rules.kinds[name] in LONE:
             self.give(name, 1)
         else:
             self.awaited = name
@@ -97,12 +102,12 @@ class Reading:
         """Note that an OPTION is given: what is its value, or 1."""
         got = self.got.setdefault(name, [])
         got.append(what)
-        if self.kinds[name] == "once" and len(got) > 1:
+        if self.rules.kinds[name] == "once" and len(got) > 1:
             self.refused = True
 
     def what_is_held(self, name):
         """What a MEANING holds of an OPTION that was given."""
-        kind = self.kinds[name]
+        kind = self.rules.kinds[name]
         got = self.got[name]
         if kind == "count":
             return len(got)
@@ -118,38 +123,40 @@ class Reading:
         """The second half of the MEANING of what was read."""
         pairs = []
         start = 0
-        for place, many in zip(self.places, shares(self.places, len(self.placed))):
-            if many > 0:
-                pairs.append((place[0], tuple(self.placed[start:start + many])))
+        for name, many in self.rules.dealt(len(self.placed)):
+            pairs.append((name, tuple(self.placed[start:start + many])))
             start += many
         return tuple(pairs)
 
 
-def reading_of(grammar, words):
-    """The Reading of a line, of any length, or None if it is refused."""
-    reading = Reading(grammar)
+def read_by(rules, words):
+    """The Reading of a line, of any length; it ends where the line is refused."""
+    reading = Reading(rules)
     for word in words:
-        reading.read_word(word)
         if reading.refused:
-            return None
-    if reading.awaited is not None or shares(reading.places, len(reading.placed)) is None:
-        return None
+            return reading
+        reading.read_word(word)
     return reading
+
+
+def meaning_by(rules, words):
+    """The MEANING of a line, of any length, or None if it is refused."""
+    reading = read_by(rules, words)
+    if not reading.is_accepted():
+        return None
+    return reading.held_pairs(), reading.filled_pairs()
 
 
 def meaning(grammar, line):
     """The MEANING of a LINE by a GRAMMAR, or None if it is refused."""
     need_grammar(grammar)
     need_line(line)
-    reading = reading_of(grammar, line)
-    if reading is None:
-        return None
-    return reading.held_pairs(), reading.filled_pairs()
+    return meaning_by(Rules(grammar), line)
 
 
 def lasts(grammar, line):
     """Whether a LINE is ACCEPTED by a GRAMMAR and LASTS."""
     need_grammar(grammar)
     need_line(line)
-    reading = reading_of(grammar, line)
-    return reading is not None and reading.lasting
+    reading = read_by(Rules(grammar), line)
+    return reading.is_accepted() and reading.is_lasting()

@@ -7,8 +7,8 @@ from importlib import import_module
 from pathlib import Path
 
 import samples
-from keptlines import errors, grammars, reading, words
-from samples import EXAMPLE, grammar
+from keptlines import errors, grammars, keeping, lasting, reading, spelling, wishes, words
+from samples import EXAMPLE, ON, grammar
 
 PACKAGE = Path(__file__).resolve().parent.parent / "keptlines"
 
@@ -19,7 +19,53 @@ FUNCTIONS = {
         "numbers": ["grammar"], "with_options": ["grammar", "options"],
     },
     "reading": {"meaning": ["grammar", "line"], "lasts": ["grammar", "line"]},
+    "keeping": {
+        "keeps": ["old", "new"], "parted": ["old", "new"], "touchstones": ["old"],
+        "are_alike": ["one", "other"], "keepers": ["grammars"], "oldest": ["grammars"],
+    },
+    "lasting": {"is_later": ["old", "new"], "breaker": ["grammar", "line"], "is_firm": ["grammar"]},
+    "spelling": {
+        "need_meaning": ["grammar", "thing"], "least": ["grammar", "meaning"],
+        "least_lasting": ["grammar", "meaning"], "least_common": ["grammars", "meaning"],
+    },
+    "wishes": {
+        "fits": ["grammar", "wishes"], "choice": ["grammar", "wishes"], "cover": ["grammar", "wishes"],
+        "is_choice": ["grammar", "wishes", "thing"], "is_cover": ["grammar", "wishes", "thing"],
+        "why_not": ["grammar", "wish"], "roots": ["grammar"], "least_name": ["grammar", "start"],
+    },
 }
+
+WISHES = (("aa", "a", "flag"), ("bb", "a", "last"), ("aa", "", "all"), ("vv", "", "flag"))
+
+# Ordinary arguments of each function that takes a GRAMMAR, the first ones GRAMMARs.
+CALLS = (
+    (grammars.need_grammar, EXAMPLE), (grammars.tellings, EXAMPLE), (grammars.numbers, EXAMPLE),
+    (grammars.with_options, EXAMPLE, WISHES[:1]),
+    (reading.meaning, EXAMPLE, ("--v",)), (reading.lasts, EXAMPLE, ("--v",)),
+    (keeping.keeps, EXAMPLE, grammar()), (keeping.parted, EXAMPLE, grammar()), (keeping.touchstones, EXAMPLE),
+    (keeping.are_alike, EXAMPLE, EXAMPLE), (lasting.is_later, EXAMPLE, EXAMPLE),
+    (lasting.breaker, EXAMPLE, ("--v",)), (lasting.is_firm, EXAMPLE),
+    (spelling.need_meaning, EXAMPLE, ((), ())), (spelling.least, EXAMPLE, ((("verbose", 2),), ())),
+    (spelling.least_lasting, EXAMPLE, ((("color", ""),), (("file", ("-5",)),))),
+    (wishes.fits, EXAMPLE, WISHES), (wishes.choice, EXAMPLE, WISHES), (wishes.cover, EXAMPLE, WISHES),
+    (wishes.is_choice, EXAMPLE, WISHES, (0,)), (wishes.is_cover, EXAMPLE, WISHES, (("aa",), ("a",))),
+    (wishes.why_not, EXAMPLE, WISHES[3]), (wishes.roots, EXAMPLE), (wishes.least_name, EXAMPLE, "c"),
+)
+
+# Those that take a tuple of GRAMMARs, and what they take behind it.
+ROW_CALLS = ((keeping.keepers,), (keeping.oldest,), (spelling.least_common, ((("verbose", 1),), ())))
+ROW = (grammar(EXAMPLE[0]), EXAMPLE, EXAMPLE, grammar(EXAMPLE[0][:0]))
+
+BAD_GRAMMARS = (
+    ((None, None, None), ("options",)), ((samples.many_options(25), None, ON), ("options",)),
+    ((WISHES, None, None), ("options", 1)), (((["ab", "", "flag"],), (), ON), ("options", 0)),
+    ((((), ()), (), ON), ("options", 0)), (((("ab", "a", True),), (), ON), ("options", 0)),
+    (((), [], None), ("places",)), (((), samples.many_places(6), ON), ("places",)),
+    (((), (("ab", "one"), ("ab", "may")), ()), ("places", 1)), (((), (("ab", None),), ON), ("places", 0)),
+    (((), (("ab", "many"), ("cd", "many")), ON), ("places", 1)), (((), (), (1, 0, 1)), ("modes",)),
+    (((), (), [True, True, True]), ("modes",)), (((), (), (True, True)), ("modes",)), (EXAMPLE[:2], ()),
+    (list(EXAMPLE), ()), (((), (), samples.Stubborn()), ("modes",)), ((samples.deep(tuple), (), ON), ("options", 0)),
+)
 
 CLASSES = {
     "errors": ["KeptError", "BadGrammar", "BadLine", "BadMeaning", "BadForm", "BadText", "BadQuestion",
@@ -78,6 +124,16 @@ class KeepingTests(unittest.TestCase):
         line[1] = "z"
         self.assertEqual(told, ((("ab", ("x",)),), (("file", ("y",)),)))
 
+    def test_equal_calls_return_equal_results_that_the_caller_may_change(self):
+        for call, *arguments in CALLS + tuple((call, ROW[1:3], *more) for call, *more in ROW_CALLS):
+            text = repr(arguments)
+            told = call(*arguments)
+            shown = repr(told)
+            for part in [told] if isinstance(told, (list, dict)) else []:
+                part.clear()
+            self.assertEqual(repr(call(*eval(text))), shown, call)
+            self.assertEqual(repr(arguments), text, call)
+
     def test_equal_calls_return_equal_results(self):
         for modes in samples.ALL_MODES:
             one, other = (grammar(list(EXAMPLE[0]), list(EXAMPLE[1]), modes) for _ in range(2))
@@ -107,6 +163,80 @@ class OrderTests(unittest.TestCase):
         with self.assertRaises(errors.BadGrammar) as caught:
             grammars.with_options(((), None, samples.ON), (None,))
         self.assertEqual(caught.exception.place, ("places",))
+
+
+    def grammar_is_refused(self, place, call, *arguments):
+        with self.assertRaises(errors.BadGrammar, msg=call) as caught:
+            call(*arguments)
+        self.assertIs(caught.exception.__class__, errors.BadGrammar)
+        self.assertEqual(caught.exception.place, place)
+
+    def test_each_function_with_a_grammar_refuses_what_is_none_first(self):
+        odd = [(thing, ()) for thing in samples.odd_things() + ["", "abc", (), ((),)]]
+        for call, *arguments in CALLS:
+            for bad, place in [*BAD_GRAMMARS, *odd]:
+                self.grammar_is_refused(place, call, bad, *arguments[1:])
+                self.grammar_is_refused(place, call, bad, *[None] * (len(arguments) - 1))
+
+    def test_of_two_grammars_the_first_one_is_refused(self):
+        odd = [(thing, ()) for thing in samples.odd_things() + ["", "abc", (), ((),)]]
+        for call in (keeping.keeps, keeping.parted, keeping.are_alike, lasting.is_later):
+            for bad, place in [*BAD_GRAMMARS, *odd]:
+                self.grammar_is_refused(place, call, bad, None)
+                self.grammar_is_refused(place, call, EXAMPLE, bad)
+                self.grammar_is_refused(("modes",), call, ((), (), None), bad)
+
+    def test_of_a_tuple_of_grammars_the_first_one_is_refused(self):
+        odd = [(thing, ()) for thing in samples.odd_things() + ["", "abc", (), ((),)]]
+        for call, *more in ROW_CALLS:
+            for bad, place in [*BAD_GRAMMARS, *odd]:
+                self.grammar_is_refused(place, call, (bad,), *more)
+                self.grammar_is_refused(place, call, (EXAMPLE, bad, EXAMPLE), *more)
+                self.grammar_is_refused(place, call, (bad, ((), (), None)), *[None for _ in more])
+                self.grammar_is_refused(("modes",), call, (EXAMPLE, ((), (), None), bad), *[None for _ in more])
+
+    def test_what_is_no_tuple_of_grammars_is_refused(self):
+        for call, *more in ROW_CALLS:
+            for thing in [*samples.odd_things(), "", "ab", [EXAMPLE], {EXAMPLE: 1}]:
+                self.grammar_is_refused((), call, thing, *more)
+        for call, *more in ROW_CALLS[1:]:
+            self.grammar_is_refused((), call, (), *more)
+
+    def test_lines_are_refused_next(self):
+        for call in (reading.meaning, reading.lasts, lasting.breaker):
+            for line, place in ((["a"], ()), (("a",) * 81, ()), (("a", "--none", "A"), (2,)), (("x" * 81,), (0,))):
+                with self.assertRaises(errors.BadLine) as caught:
+                    call(EXAMPLE, line)
+                self.assertEqual(caught.exception.place, place)
+
+
+class KindsTests(unittest.TestCase):
+    """What is returned has the kinds that the interface tells."""
+
+    def test_kinds(self):
+        for call, *arguments in CALLS:
+            told = call(*arguments)
+            for part in self.parts(told):
+                self.assertIn(part.__class__, (str, int, bool, tuple, list, dict, type(None)))
+        for call in (keeping.keeps, keeping.are_alike, lasting.is_later):
+            self.assertIs(call(EXAMPLE, EXAMPLE), True)
+            self.assertIs(call(EXAMPLE, grammar()), False)
+        self.assertIsNone(keeping.parted(EXAMPLE, EXAMPLE))
+        self.assertIs(keeping.keepers(ROW).__class__, list)
+        self.assertEqual({pair.__class__ for pair in keeping.keepers(ROW)}, {tuple})
+        self.assertIs(wishes.roots(EXAMPLE).__class__, tuple)
+        self.assertIs(wishes.fits(EXAMPLE, WISHES), False)
+
+    def test_numbers_are_never_true_or_false(self):
+        for told in (keeping.keepers(ROW), keeping.oldest(ROW), wishes.choice(grammar(), WISHES)):
+            self.assertNotIn(bool, [part.__class__ for part in self.parts(told)])
+
+    def parts(self, thing):
+        found = [thing]
+        if isinstance(thing, (tuple, list, dict)):
+            for part in thing:
+                found.extend(self.parts(part))
+        return found
 
 
 if __name__ == "__main__":

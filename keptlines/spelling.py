@@ -1,0 +1,197 @@
+"""LINEs of the least SIZE that have a MEANING."""
+
+from keptlines.errors import BadMeaning, BadQuestion
+from keptlines.grammars import is_tuple_of, is_whole, need_grammar
+from keptlines.reading import VALUELESS
+from keptlines.rules import Rules, rules_of_some, shortest
+from keptlines.words import is_dashed, is_number, is_word
+
+MOST_COUNT = 40
+MOST_VALUES = 20
+MOST_PLACED = 40
+
+
+def is_words(thing):
+    """Whether the thing, of any kind, is a tuple of WORDs."""
+    return isinstance(thing, tuple) and all([is_word(word) for word in thing])
+
+
+def can_hold(kind, what):
+    """Whether an OPTION of this KIND can hold what is told, of any kind."""
+    if kind == "count":
+        return is_whole(what) and 1 <= what <= MOST_COUNT
+    if kind == "all":
+        return is_words(what) and 1 <= len(what) <= MOST_VALUES
+    if kind == "flag" or (kind == "maybe" and is_whole(what)):
+        return is_whole(what) and what == 1
+    return is_word(what)
+
+
+def is_held(rules, item, ahead):
+    """Whether the item, of any kind, can stand in HELD behind the NAME ahead of it."""
+    if not is_tuple_of(item, 2):
+        return False
+    name, what = item
+    if not isinstance(name, str) or name not in rules.kinds or name <= ahead:
+        return False
+    return can_hold(rules.kinds[name], what)
+
+
+def is_filled(rules, thing):
+    """Whether the tuple, of any items, is what dealing as many place words gives."""
+    pairs = []
+    for item in thing:
+        if not is_tuple_of(item, 2):
+            return False
+        name, words = item
+        if not isinstance(name, str) or not is_words(words):
+            return False
+        pairs.append((name, len(words)))
+    count = sum([many for _, many in pairs])
+    return count <= MOST_PLACED and rules.dealt(count) == pairs
+
+
+def need_meaning_by(rules, thing):
+    """The thing itself; BadMeaning if it is no MEANING by the Rules."""
+    if not is_tuple_of(thing, 2) or not all([isinstance(half, tuple) for half in thing]):
+        raise BadMeaning(())
+    held, filled = thing
+    # Each NAME is greater than the empty string.
+    ahead = ""
+    for number, item in enumerate(held):
+        if not is_held(rules, item, ahead):
+            raise BadMeaning(("held", number))
+        ahead = item[0]
+    if not is_filled(rules, filled):
+        raise BadMeaning(("filled",))
+    return thing
+
+
+def is_meaning_by(rules, thing):
+    """Whether the thing, of any kind, is a MEANING by the Rules."""
+    try:
+        need_meaning_by(rules, thing)
+    except BadMeaning:
+        return False
+    return True
+
+
+def need_meaning(grammar, thing):
+    """The thing itself; BadMeaning if it is no MEANING by the GRAMMAR."""
+    need_grammar(grammar)
+    return need_meaning_by(Rules(grammar), thing)
+
+
+def values_given(kind, what):
+    """What an OPTION is given, one after another, to hold this."""
+    if kind == "count":
+        return (1,) * what
+    return what if kind == "all" else (what,)
+
+
+def words_giving(kind, letter, telling, value):
+    """The fewest SIGNs that give an OPTION this value, or 1."""
+    if is_whole(value):
+        return ["-" + letter] if letter != "" else ["--" + telling]
+    if letter == "" or (kind == "maybe" and value == ""):
+        # Behind the LETTER of a maybe no value can be empty.
+        return ["--" + telling + "=" + value]
+    return ["-" + letter + value] if value != "" else ["-" + letter, ""]
+
+
+def with_joined(words, joined):
+    """The words with these LETTERs of flags and counts, in the first WORD that takes them."""
+    if joined == "":
+        return words
+    for at, word in enumerate(words):
+        # An empty value is not met here: the WORD of its LETTER stands ahead of it.
+        if not word.startswith("--"):
+            return words[:at] + ["-" + joined + word[1:]] + words[at + 1:]
+    return ["-" + joined] + words
+
+
+def options_spelled(rules, told, held):
+    """WORDs that give all OPTIONs; told is a dict from their NAMEs to TELLINGs."""
+    joined = ""
+    words = []
+    for name, what in held:
+        kind = rules.kinds[name]
+        letter = rules.own_letters[name]
+        if kind in VALUELESS and letter != "":
+            joined += letter * what
+        else:
+            for value in values_given(kind, what):
+                words.extend(words_giving(kind, letter, told[name], value))
+    return with_joined(words, joined)
+
+
+def is_exposed(rules, word, lasting):
+    """Whether an open line does not read the WORD as place word, or not lastingly so."""
+    if not is_dashed(word):
+        return False
+    return lasting or not (rules.minus and is_number(word))
+
+
+def needs_closing(rules, words, lasting):
+    """Whether a "--" must stand ahead of the place words."""
+    # Where options must stand ahead, the first place word protects the others.
+    open_words = words if rules.mixed else words[:1]
+    return any([is_exposed(rules, word, lasting) for word in open_words])
+
+
+def spelled(all_rules, told, thing, lasting):
+    """The least LINE that has a MEANING by all of the Rules, with these TELLINGs."""
+    held, filled = thing
+    placed = [word for _, words in filled for word in words]
+    line = options_spelled(all_rules[0], told, held)
+    if any([needs_closing(rules, placed, lasting) for rules in all_rules]):
+        line.append("--")
+    return tuple(line + placed)
+
+
+def least(grammar, meaning):
+    """A LINE of the least SIZE that has the MEANING."""
+    need_grammar(grammar)
+    rules = Rules(grammar)
+    need_meaning_by(rules, meaning)
+    return spelled([rules], shortest(rules.told), meaning, False)
+
+
+def least_lasting(grammar, meaning):
+    """A LINE of the least SIZE among those that last and have the MEANING."""
+    need_grammar(grammar)
+    rules = Rules(grammar)
+    need_meaning_by(rules, meaning)
+    return spelled([rules], {name: name for name in rules.kinds}, meaning, True)
+
+
+def agree(all_rules):
+    """Whether no NAME has unlike LETTERs or unlike KINDs."""
+    known = {}
+    for rules in all_rules:
+        for name in rules.kinds:
+            same = (rules.own_letters[name], rules.kinds[name])
+            if known.setdefault(name, same) != same:
+                return False
+    return True
+
+
+def told_by_all(all_rules):
+    """The TELLINGs that tell an OPTION of the same NAME by all Rules."""
+    told = all_rules[0].told
+    return {
+        telling: told[telling]
+        for telling in told
+        if all([rules.told.get(telling) == told[telling] for rules in all_rules])
+    }
+
+
+def least_common(grammars, meaning):
+    """A LINE of the least SIZE that has the MEANING by each GRAMMAR, or None."""
+    all_rules = rules_of_some(grammars)
+    if not agree(all_rules):
+        raise BadQuestion("a NAME has unlike LETTERs or unlike KINDs")
+    need_meaning_by(all_rules[0], meaning)
+    if not all([is_meaning_by(rules, meaning) for rules in all_rules]):
+        return None
+    return spelled(all_rules, shortest(told_by_all(all_rules)), meaning, False)
