@@ -1,17 +1,12 @@
 """Whether one GRAMMAR KEEPS another one, for all LINEs, and which LINEs are parted if not."""
 
 from keptlines.grammars import need_grammar
-from keptlines.reading import meaning_by, read_by
-from keptlines.rules import Rules, rules_of_all, rules_of_some, shortest
-from keptlines.words import size
+from keptlines.reading import LONE, VALUELESS, meaning_by
+from keptlines.rules import Rules, rules_of_all, rules_of_some
+from keptlines.words import size_of
 
 # Six place words show what more of them do: a PLACE "many" has two of them then.
 MOST_DEALT = 6
-
-
-def keeps_tellings(old, new):
-    """Whether each TELLING tells an OPTION of the same NAME by the new Rules."""
-    return all([new.told.get(telling) == old.told[telling] for telling in old.told])
 
 
 def keeps_kind(old, new, name):
@@ -26,9 +21,18 @@ def keeps_kind(old, new, name):
     return kind == later
 
 
-def keeps_letters(old, new):
-    """Whether each LETTER of the old Rules has an OPTION of the same NAME."""
-    return all([new.letters.get(letter) == old.letters[letter] for letter in old.letters])
+def keeps_option(old, new, name):
+    """Whether the LINEs that give an OPTION of the old Rules can keep their MEANINGs."""
+    letter = old.own_letters[name]
+    if not keeps_kind(old, new, name) or (letter != "" and new.letters.get(letter) != name):
+        return False
+    # Where the shortest TELLING is kept, no other NAME of the new Rules begins with it.
+    return new.tells(old.least_telling(name)) == name
+
+
+def keeps_numbers(old, new):
+    """Whether the NUMBER WORDs that are place words in an open LINE stay such."""
+    return new.minus or not old.places_numbers()
 
 
 def keeps_mixing(old, new):
@@ -39,66 +43,88 @@ def keeps_mixing(old, new):
     return not old.takes_words(1 if old.mixed else 2)
 
 
-def keeps_dealing(old, new):
-    """Whether all numbers of place words that are accepted are dealt in the same way."""
+def dealt_otherwise(old, new):
+    """The least number of place words that the old Rules accept and the new ones deal otherwise, or None."""
+    if old.places == new.places:
+        return None
     for count in range(MOST_DEALT + 1):
         dealt = old.dealt(count)
         if dealt is not None and new.dealt(count) != dealt:
-            return False
-    return True
+            return count
+    return None
 
 
 def keeps_by(old, new):
     """Whether the new Rules keep the old ones, by the Fact of [9]."""
-    if not all([keeps_kind(old, new, name) for name in old.kinds]):
+    if not all([keeps_option(old, new, name) for name in old.kinds]):
         return False
-    if not keeps_letters(old, new) or not keeps_tellings(old, new):
+    if not keeps_numbers(old, new) or not keeps_mixing(old, new):
         return False
-    if old.places_numbers() and not new.minus:
-        return False
-    return keeps_mixing(old, new) and keeps_dealing(old, new)
+    return dealt_otherwise(old, new) is None
 
 
-def openings(rules):
-    """The beginnings of the LINEs of [10]."""
-    found = [("-0",), ("", "--")]
-    found.extend([("",) * count for count in range(MOST_DEALT + 1)])
-    for telling in rules.told:
-        found.extend([("--" + telling,), ("--" + telling + "=",)])
-    repeated = []
-    for telling in shortest(rules.told).values():
-        repeated.extend(["--" + telling, "--" + telling + "="])
-    for letter in rules.letters:
-        found.extend([("-" + letter,), ("-" + letter + letter,)])
-        repeated.append("-" + letter)
-    for word in repeated:
-        found.extend([(word, word), (word, "", word, "")])
-    return found
+def number_line(rules):
+    """The least LINE with a NUMBER WORD as its first place word."""
+    return ("-0",) + ("",) * (rules.fewest - 1)
 
 
-def completed(rules, words):
-    """The words and as many empty ones as a LINE still needs, or None if it is refused."""
-    reading = read_by(rules, words)
-    needed = 0 if reading.awaited is None else 1
-    needed += max(0, rules.fewest - len(reading.placed))
-    line = words + ("",) * needed
-    return line if read_by(rules, line).is_accepted() else None
+def closing_line(rules):
+    """The least LINE with a "--" behind a place word."""
+    # Behind a place word that closes the LINE, "--" is one, too.
+    placed = 1 if rules.mixed else 2
+    return ("", "--") + ("",) * (rules.fewest - placed)
 
 
-def trials(rules):
-    """The LINEs of [10] that are accepted, the least ones first."""
-    lines = {completed(rules, words): True for words in openings(rules)}
-    return sorted([line for line in lines if line is not None], key=size)
+def ways_of_telling(kind, telling):
+    """The WORDs that give an OPTION of this KIND once by the TELLING, without a "=" and with it."""
+    word = "--" + telling
+    if kind in VALUELESS:
+        return [(word,)]
+    return [(word,) if kind in LONE else (word, ""), (word + "=",)]
+
+
+def option_lines(rules, name, told):
+    """The LINEs of [10] in which an OPTION is given; told: its TELLINGs, the shortest one first."""
+    kind = rules.kinds[name]
+    letter = rules.own_letters[name]
+    found = [way for telling in told for way in ways_of_telling(kind, telling)]
+    ways = ways_of_telling(kind, told[0])
+    if letter != "":
+        ways.append(("-" + letter,) if kind in LONE else ("-" + letter, ""))
+        found.extend([ways[-1], ("-" + letter + letter,)])
+    if kind != "once":
+        found.extend([way + way for way in ways])
+    return [words + ("",) * rules.fewest for words in found]
 
 
 def parted_by(old, new):
     """A LEAST LINE that is parted by two Rules, or None."""
-    if keeps_by(old, new):
-        return None
-    for line in trials(old):
+    lines = [] if keeps_numbers(old, new) else [number_line(old)]
+    if not keeps_mixing(old, new):
+        lines.append(closing_line(old))
+    count = dealt_otherwise(old, new)
+    if count is not None:
+        lines.append(("",) * count)
+    for name in old.kinds:
+        # The LINEs of the other OPTIONs are parted only where a shorter one is.
+        if not keeps_option(old, new, name):
+            lines.extend(option_lines(old, name, [old.least_telling(name)]))
+    for line in sorted(lines, key=size_of):
         if meaning_by(old, line) != meaning_by(new, line):
             return line
     return None
+
+
+def trials(rules):
+    """The LINEs of [10] that are accepted."""
+    lines = [("",) * count for count in range(MOST_DEALT + 1) if rules.deals(count)]
+    if rules.places_numbers():
+        lines.append(number_line(rules))
+    if rules.takes_words(1 if rules.mixed else 2):
+        lines.append(closing_line(rules))
+    for name in rules.kinds:
+        lines.extend(option_lines(rules, name, rules.tellings_of(name)))
+    return lines
 
 
 def keeps(old, new):
@@ -118,7 +144,7 @@ def parted(old, new):
 def touchstones(old):
     """LINEs that only GRAMMARs that KEEP this one all give the same MEANING."""
     need_grammar(old)
-    return tuple(trials(Rules(old)))
+    return tuple(sorted(trials(Rules(old)), key=size_of))
 
 
 def are_alike(one, other):

@@ -3,7 +3,7 @@
 from keptlines.errors import BadQuestion
 from keptlines.grammars import MOST_OPTIONS, need_grammar
 from keptlines.reading import read_by
-from keptlines.rules import Rules, shortenings
+from keptlines.rules import Rules
 from keptlines.words import need_line
 
 
@@ -58,4 +58,4 @@ def is_firm(grammar):
     """Whether all LINEs that a GRAMMAR accepts last."""
     need_grammar(grammar)
     rules = Rules(grammar)
-    return not shortenings(rules.told) and not rules.places_numbers()
+    return not rules.roots() and not rules.places_numbers()

@@ -27,7 +27,7 @@ class Reading:
         """Whether the line is ACCEPTED if it ends here."""
         if self.refused or self.awaited is not None:
             return False
-        return self.rules.dealt(len(self.placed)) is not None
+        return self.rules.deals(len(self.placed))
 
     def is_lasting(self):
         """Whether no LATER GRAMMAR reads any WORD otherwise."""
@@ -59,15 +59,21 @@ class Reading:
         if not self.rules.mixed:
             self.closed = True
 
+    def tell(self, told):
+        """The NAME of the OPTION that this tells; None, and the line is refused, if there is none."""
+        name = self.rules.tells(told)
+        if name is None:
+            self.refused = True
+        elif told != name:
+            self.shortened = told
+        return name
+
     def read_long(self, word):
         """Read a WORD that begins with "--" and tells an OPTION."""
         told, equals, value = word[2:].partition("=")
-        if told not in self.rules.told:
-            self.refused = True
+        name = self.tell(told)
+        if name is None:
             return
-        name = self.rules.told[told]
-        if told != name:
-            self.shortened = told
         if equals == "":
             self.give_or_await(name)
         elif self.rules.kinds[name] in VALUELESS:

@@ -1,7 +1,7 @@
 """What a GRAMMAR says, laid out for many questions about it."""
 
 from keptlines.errors import BadGrammar
-from keptlines.grammars import need_grammar, reads_numbers, shares, span, told_names
+from keptlines.grammars import need_grammar, reads_numbers, shares, span
 
 
 class Rules:
@@ -9,18 +9,48 @@ class Rules:
 
     def __init__(self, grammar):
         options, places, modes = grammar
-        self.told = told_names(grammar)
         self.kinds = {name: kind for name, _, kind in options}
         self.own_letters = {name: letter for name, letter, _ in options}
         self.letters = {letter: name for name, letter, _ in options if letter != ""}
         self.places = places
+        self.short = modes[0]
         self.mixed = modes[1]
         self.minus = reads_numbers(grammar)
         self.fewest, self.most = span(places)
 
+    def tells(self, told):
+        """The NAME of the OPTION that this tells, or None."""
+        if told in self.kinds:
+            return told
+        if not self.short or told == "":
+            return None
+        found = [name for name in self.kinds if name.startswith(told)]
+        return found[0] if len(found) == 1 else None
+
+    def least_telling(self, name):
+        """The shortest of the TELLINGs of an OPTION."""
+        for end in range(1, len(name)):
+            if self.tells(name[:end]) == name:
+                return name[:end]
+        return name
+
+    def tellings_of(self, name):
+        """All TELLINGs of an OPTION, the shortest one first."""
+        # No other NAME begins with a shortening, so all that is longer tells the same.
+        return [name[:end] for end in range(len(self.least_telling(name)), len(name) + 1)]
+
+    def roots(self):
+        """The ROOTs, ascending: the least shortenings of the OPTIONs that have one."""
+        least = {name: self.least_telling(name) for name in self.kinds}
+        return sorted([least[name] for name in least if least[name] != name])
+
     def takes_words(self, count):
         """Whether a LINE with so many place words, or more, is accepted."""
         return self.most is None or self.most >= count
+
+    def deals(self, count):
+        """Whether just so many place words are accepted."""
+        return count >= self.fewest and self.takes_words(count)
 
     def places_numbers(self):
         """Whether some accepted LINE has a NUMBER WORD as place word while it is open."""
@@ -47,17 +77,3 @@ def rules_of_some(grammars):
     if not found:
         raise BadGrammar(())
     return found
-
-
-def shortest(told):
-    """A dict from NAMEs to the shortest of the TELLINGs that tell them."""
-    found = {}
-    for telling in sorted(told):
-        # All TELLINGs of an OPTION begin with its shortest one, so that one comes first.
-        found.setdefault(told[telling], telling)
-    return found
-
-
-def shortenings(told):
-    """The shortenings among the TELLINGs, ascending."""
-    return [telling for telling in sorted(told) if told[telling] != telling]

@@ -2,8 +2,9 @@
 
 from keptlines.errors import BadMeaning, BadQuestion
 from keptlines.grammars import is_tuple_of, is_whole, need_grammar
+from keptlines.pieces import ahead_of, text_of
 from keptlines.reading import VALUELESS
-from keptlines.rules import Rules, rules_of_some, shortest
+from keptlines.rules import Rules, rules_of_some
 from keptlines.words import is_dashed, is_number, is_word
 
 MOST_COUNT = 40
@@ -89,31 +90,39 @@ def values_given(kind, what):
     return what if kind == "all" else (what,)
 
 
-def words_giving(kind, letter, telling, value):
-    """The fewest SIGNs that give an OPTION this value, or 1."""
+def pieces_giving(kind, letter, telling, value):
+    """The fewest SIGNs that give an OPTION this value, or 1, whatever is put into a HOLE of it."""
     if is_whole(value):
         return ["-" + letter] if letter != "" else ["--" + telling]
-    if letter == "" or (kind == "maybe" and value == ""):
+    # A HOLE alone may get nothing: it is given as an empty WORD is.
+    empty = text_of(value) == ""
+    if letter == "" or (kind == "maybe" and empty):
         # Behind the LETTER of a maybe no value can be empty.
-        return ["--" + telling + "=" + value]
-    return ["-" + letter + value] if value != "" else ["-" + letter, ""]
+        return [ahead_of("--" + telling + "=", value)]
+    return ["-" + letter, value] if empty else [ahead_of("-" + letter, value)]
 
 
-def with_joined(words, joined):
-    """The words with these LETTERs of flags and counts, in the first WORD that takes them."""
+def with_letters(joined, piece):
+    """The PIECE, which begins with a LETTER behind "-", with further LETTERs ahead of that one."""
+    text = "-" + joined + text_of(piece)[1:]
+    return text if isinstance(piece, str) else (text, piece[1])
+
+
+def with_joined(pieces, joined):
+    """The PIECEs with these LETTERs of flags and counts, in the first one that takes them."""
     if joined == "":
-        return words
-    for at, word in enumerate(words):
+        return pieces
+    for at, piece in enumerate(pieces):
         # An empty value is not met here: the WORD of its LETTER stands ahead of it.
-        if not word.startswith("--"):
-            return words[:at] + ["-" + joined + word[1:]] + words[at + 1:]
-    return ["-" + joined] + words
+        if not text_of(piece).startswith("--"):
+            return pieces[:at] + [with_letters(joined, piece)] + pieces[at + 1:]
+    return ["-" + joined] + pieces
 
 
 def options_spelled(rules, told, held):
-    """WORDs that give all OPTIONs; told is a dict from their NAMEs to TELLINGs."""
+    """PIECEs that give all OPTIONs; told is a dict from their NAMEs to TELLINGs."""
     joined = ""
-    words = []
+    pieces = []
     for name, what in held:
         kind = rules.kinds[name]
         letter = rules.own_letters[name]
@@ -121,32 +130,45 @@ def options_spelled(rules, told, held):
             joined += letter * what
         else:
             for value in values_given(kind, what):
-                words.extend(words_giving(kind, letter, told[name], value))
-    return with_joined(words, joined)
+                pieces.extend(pieces_giving(kind, letter, told[name], value))
+    return with_joined(pieces, joined)
 
 
-def is_exposed(rules, word, lasting):
-    """Whether an open line does not read the WORD as place word, or not lastingly so."""
-    if not is_dashed(word):
+def is_exposed(rules, piece, lasting):
+    """Whether an open line may not read the PIECE as place word, or not lastingly so."""
+    if not isinstance(piece, str):
+        return piece[0] == "" or piece[0].startswith("-")
+    if not is_dashed(piece):
         return False
-    return lasting or not (rules.minus and is_number(word))
+    return lasting or not (rules.minus and is_number(piece))
 
 
-def needs_closing(rules, words, lasting):
+def needs_closing(rules, pieces, lasting):
     """Whether a "--" must stand ahead of the place words."""
     # Where options must stand ahead, the first place word protects the others.
-    open_words = words if rules.mixed else words[:1]
-    return any([is_exposed(rules, word, lasting) for word in open_words])
+    open_pieces = pieces if rules.mixed else pieces[:1]
+    return any([is_exposed(rules, piece, lasting) for piece in open_pieces])
 
 
 def spelled(all_rules, told, thing, lasting):
-    """The least LINE that has a MEANING by all of the Rules, with these TELLINGs."""
+    """The least LINE, or FORM, that has a MEANING, or a SHAPE, by all of the Rules; told: TELLINGs by NAMEs."""
     held, filled = thing
-    placed = [word for _, words in filled for word in words]
+    placed = [piece for _, pieces in filled for piece in pieces]
     line = options_spelled(all_rules[0], told, held)
     if any([needs_closing(rules, placed, lasting) for rules in all_rules]):
         line.append("--")
     return tuple(line + placed)
+
+
+def least_by(rules, thing):
+    """The least LINE that has a MEANING, or the least FORM that is SURE and has a SHAPE, by the Rules."""
+    told = {name: rules.least_telling(name) for name, _ in thing[0]}
+    return spelled([rules], told, thing, False)
+
+
+def least_lasting_by(rules, thing):
+    """The least of the LINEs, or FORMs, that last, too."""
+    return spelled([rules], {name: name for name, _ in thing[0]}, thing, True)
 
 
 def least(grammar, meaning):
@@ -154,7 +176,7 @@ def least(grammar, meaning):
     need_grammar(grammar)
     rules = Rules(grammar)
     need_meaning_by(rules, meaning)
-    return spelled([rules], shortest(rules.told), meaning, False)
+    return least_by(rules, meaning)
 
 
 def least_lasting(grammar, meaning):
@@ -162,7 +184,7 @@ def least_lasting(grammar, meaning):
     need_grammar(grammar)
     rules = Rules(grammar)
     need_meaning_by(rules, meaning)
-    return spelled([rules], {name: name for name in rules.kinds}, meaning, True)
+    return least_lasting_by(rules, meaning)
 
 
 def agree(all_rules):
@@ -176,14 +198,10 @@ def agree(all_rules):
     return True
 
 
-def told_by_all(all_rules):
-    """The TELLINGs that tell an OPTION of the same NAME by all Rules."""
-    told = all_rules[0].told
-    return {
-        telling: told[telling]
-        for telling in told
-        if all([rules.told.get(telling) == told[telling] for rules in all_rules])
-    }
+def told_by_all(all_rules, name):
+    """The shortest of the TELLINGs that tell an OPTION of this NAME by all Rules."""
+    # Where a shorter TELLING is one, so is each longer one.
+    return max([rules.least_telling(name) for rules in all_rules], key=len)
 
 
 def least_common(grammars, meaning):
@@ -194,4 +212,5 @@ def least_common(grammars, meaning):
     need_meaning_by(all_rules[0], meaning)
     if not all([is_meaning_by(rules, meaning) for rules in all_rules]):
         return None
-    return spelled(all_rules, shortest(told_by_all(all_rules)), meaning, False)
+    told = {name: told_by_all(all_rules, name) for name, _ in meaning[0]}
+    return spelled(all_rules, told, meaning, False)

@@ -3,7 +3,7 @@
 from keptlines.errors import BadQuestion
 from keptlines.grammars import MOST_OPTIONS, is_option, is_tuple_of, is_whole, need_grammar, with_options
 from keptlines.keeping import parted
-from keptlines.rules import Rules, shortenings
+from keptlines.rules import Rules
 from keptlines.words import FIGURES, MOST_NAME, NAME_SIGNS, is_letter, is_name, made_of
 
 MOST_WISHES = 16
@@ -26,16 +26,15 @@ def is_taken(rules, wish):
     return name in rules.kinds or letter in rules.letters
 
 
-def begins_shortened(rules, name):
-    """Whether the name begins with a shortening, or is one."""
-    starts = [name[:end] for end in range(1, len(name) + 1)]
-    return any([rules.told.get(start, start) != start for start in starts])
+def begins_with(name, starts):
+    """Whether the name begins with one of these, or is one."""
+    return any([name.startswith(start) for start in starts])
 
 
-def fits_alone(rules, wish):
-    """Whether the WISH FITs if it is the only one, by the Fact of [18]."""
+def fits_alone(rules, shortened, wish):
+    """Whether the WISH FITs if it is the only one, by the Fact of [18]; shortened: the ROOTs."""
     name, letter, _ = wish
-    if is_taken(rules, wish) or begins_shortened(rules, name):
+    if is_taken(rules, wish) or begins_with(name, shortened):
         return False
     return letter == "" or letter not in FIGURES or not rules.places_numbers()
 
@@ -43,7 +42,8 @@ def fits_alone(rules, wish):
 def fitting(grammar, wishes):
     """The numbers of the WISHes that FIT alone."""
     rules = Rules(grammar)
-    return [number for number, wish in enumerate(wishes) if fits_alone(rules, wish)]
+    shortened = rules.roots()
+    return [number for number, wish in enumerate(wishes) if fits_alone(rules, shortened, wish)]
 
 
 def are_unlike(texts):
@@ -185,9 +185,7 @@ def why_not(grammar, wish):
 def roots(grammar):
     """The ROOTs of the GRAMMAR, ascending."""
     need_grammar(grammar)
-    rules = Rules(grammar)
-    found = [short for short in shortenings(rules.told) if not begins_shortened(rules, short[:-1])]
-    return tuple(found)
+    return tuple(Rules(grammar).roots())
 
 
 def is_start(thing):
@@ -203,10 +201,11 @@ def least_name(grammar, start):
     if not is_start(start):
         raise BadQuestion("no NAME begins with this")
     rules = Rules(grammar)
+    shortened = rules.roots()
     starts = [start]
     for _ in range(len(start), MOST_NAME + 1):
         # At most 24 NAMEs are in the way, fewer than there are letters, so this ends soon.
-        starts = [name for name in starts if not begins_shortened(rules, name)]
+        starts = [name for name in starts if not begins_with(name, shortened)]
         for name in starts:
             if is_name(name) and name not in rules.kinds:
                 return name

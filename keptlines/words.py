@@ -6,15 +6,18 @@ MOST_SIGNS = 80
 MOST_WORDS = 80
 LEAST_NAME = 2
 MOST_NAME = 12
+MOST_TAG = 8
 FIGURES = "0123456789"
 LETTERS = "abcdefghijklmnopqrstuvwxyz0123456789"
+TAG_SIGNS = "abcdefghijklmnopqrstuvwxyz"
 NAME_SIGNS = "abcdefghijklmnopqrstuvwxyz-"
 SIGNS = "abcdefghijklmnopqrstuvwxyz0123456789-=."
 
 
 def made_of(text, signs):
     """Whether each sign of the text is one of the signs."""
-    return all([sign in signs for sign in text])
+    # What is left, if anything, begins with a sign that is none of them.
+    return text.strip(signs) == ""
 
 
 def is_word(thing):
@@ -32,6 +35,11 @@ def is_name(thing):
 def is_letter(thing):
     """Whether the thing, of any kind, can be the LETTER of an OPTION."""
     return isinstance(thing, str) and len(thing) <= 1 and made_of(thing, LETTERS)
+
+
+def is_tag(thing):
+    """Whether the thing, of any kind, can name a HOLE or a script."""
+    return isinstance(thing, str) and 1 <= len(thing) <= MOST_TAG and made_of(thing, TAG_SIGNS)
 
 
 def is_dashed(word):
@@ -54,7 +62,11 @@ def need_line(thing):
     return thing
 
 
+def size_of(words):
+    """The SIZE of WORDs that were looked at, of any number and length."""
+    return len(words) + len("".join(words))
+
+
 def size(line):
     """The SIZE of a LINE."""
-    need_line(line)
-    return len(line) + sum([len(word) for word in line])
+    return size_of(need_line(line))

@@ -7,7 +7,9 @@ from importlib import import_module
 from pathlib import Path
 
 import samples
-from keptlines import errors, grammars, keeping, lasting, reading, spelling, wishes, words
+from keptlines import (
+    desk, errors, forms, grammars, keeping, lasting, reading, releases, spelling, texts, wishes, words,
+)
 from samples import EXAMPLE, ON, grammar
 
 PACKAGE = Path(__file__).resolve().parent.parent / "keptlines"
@@ -33,7 +35,29 @@ FUNCTIONS = {
         "is_choice": ["grammar", "wishes", "thing"], "is_cover": ["grammar", "wishes", "thing"],
         "why_not": ["grammar", "wish"], "roots": ["grammar"], "least_name": ["grammar", "start"],
     },
+    "forms": {
+        "need_form": ["thing"], "holes": ["form"], "form_size": ["form"], "filled": ["form", "filling"],
+        "shape": ["grammar", "form"], "is_sure": ["grammar", "form"], "form_lasts": ["grammar", "form"],
+        "danger": ["grammar", "form"], "harms": ["grammar", "form"], "refusal": ["grammar", "form"],
+        "mended": ["grammar", "form"], "mended_lasting": ["grammar", "form"],
+    },
+    "texts": {
+        "line_text": ["line"], "form_text": ["form"], "grammar_text": ["grammar"], "read_line": ["text"],
+        "read_form": ["text"], "read_grammar": ["text"],
+    },
+    "releases": {"under": ["manager", "deed"]},
 }
+
+METHODS = {
+    releases.Releases: {
+        "__init__": ["grammar"], "release": ["grammar"], "force": ["grammar"], "__len__": [], "__getitem__": ["number"],
+        "kept_from": [], "put": ["name", "form"], "form": ["name"], "forget": ["name"], "state": ["name"], "mend": ["name"],
+        "names": [], "states": [], "undo": [], "trial": [], "__eq__": ["other"],
+    },
+    desk.Desk: {"__init__": ["text"], "say": ["line"]},
+}
+
+FORM = ("-v", ("--col=", "x"), ("", "y"))
 
 WISHES = (("aa", "a", "flag"), ("bb", "a", "last"), ("aa", "", "all"), ("vv", "", "flag"))
 
@@ -50,6 +74,16 @@ CALLS = (
     (wishes.fits, EXAMPLE, WISHES), (wishes.choice, EXAMPLE, WISHES), (wishes.cover, EXAMPLE, WISHES),
     (wishes.is_choice, EXAMPLE, WISHES, (0,)), (wishes.is_cover, EXAMPLE, WISHES, (("aa",), ("a",))),
     (wishes.why_not, EXAMPLE, WISHES[3]), (wishes.roots, EXAMPLE), (wishes.least_name, EXAMPLE, "c"),
+    (forms.shape, EXAMPLE, FORM), (forms.is_sure, EXAMPLE, FORM), (forms.form_lasts, EXAMPLE, FORM),
+    (forms.danger, EXAMPLE, FORM), (forms.harms, EXAMPLE, FORM), (forms.refusal, EXAMPLE, FORM),
+    (forms.mended, EXAMPLE, FORM), (forms.mended_lasting, EXAMPLE, FORM), (texts.grammar_text, EXAMPLE),
+)
+
+# Calls without a GRAMMAR.
+OTHER_CALLS = (
+    (forms.need_form, FORM), (forms.holes, FORM), (forms.form_size, FORM),
+    (forms.filled, FORM, (("x", "a"), ("y", "--"))), (texts.line_text, ("", "a")), (texts.form_text, FORM),
+    (texts.read_line, "'' a"), (texts.read_form, "-v {x} --col={y}"), (texts.read_grammar, "place to one\nmodes short"),
 )
 
 # Those that take a tuple of GRAMMARs, and what they take behind it.
@@ -70,6 +104,7 @@ BAD_GRAMMARS = (
 CLASSES = {
     "errors": ["KeptError", "BadGrammar", "BadLine", "BadMeaning", "BadForm", "BadText", "BadQuestion",
                "Parts", "Missing"],
+    "releases": ["Releases"], "desk": ["Desk"],
 }
 
 
@@ -91,6 +126,18 @@ class InterfaceTests(unittest.TestCase):
         for module, names in CLASSES.items():
             for name in names:
                 self.assertIn(name, defined(module))
+
+    def test_methods_and_their_arguments(self):
+        for owner, methods in METHODS.items():
+            for name, arguments in methods.items():
+                # Each one is defined in the class itself.
+                method = vars(owner)[name]
+                self.assertEqual(list(inspect.signature(method).parameters), ["self"] + arguments, name)
+
+    def test_attributes_are_there_from_the_start(self):
+        self.assertEqual(releases.Releases(EXAMPLE).last, EXAMPLE)
+        self.assertEqual(desk.Desk("modes").releases.last, ((), (), samples.OFF))
+        self.assertEqual(errors.BadForm((1,)).place, (1,))
 
 
 class KeepingTests(unittest.TestCase):
@@ -125,7 +172,7 @@ class KeepingTests(unittest.TestCase):
         self.assertEqual(told, ((("ab", ("x",)),), (("file", ("y",)),)))
 
     def test_equal_calls_return_equal_results_that_the_caller_may_change(self):
-        for call, *arguments in CALLS + tuple((call, ROW[1:3], *more) for call, *more in ROW_CALLS):
+        for call, *arguments in CALLS + OTHER_CALLS + tuple((call, ROW[1:3], *more) for call, *more in ROW_CALLS):
             text = repr(arguments)
             told = call(*arguments)
             shown = repr(told)
@@ -133,6 +180,19 @@ class KeepingTests(unittest.TestCase):
                 part.clear()
             self.assertEqual(repr(call(*eval(text))), shown, call)
             self.assertEqual(repr(arguments), text, call)
+
+    def test_what_is_done_returns_none(self):
+        one = releases.Releases(EXAMPLE)
+        for told in (one.put("a", FORM), one.forget("a")):
+            self.assertIsNone(told)
+
+    def test_states_that_were_returned_may_be_changed(self):
+        one = releases.Releases(EXAMPLE)
+        one.put("a", FORM)
+        for told in (one.states(), forms.harms(EXAMPLE, FORM)):
+            told.clear()
+        self.assertEqual(one.states(), {"a": "doubtful"})
+        self.assertEqual(list(forms.harms(EXAMPLE, FORM)), ["copy"])
 
     def test_equal_calls_return_equal_results(self):
         for modes in samples.ALL_MODES:
@@ -151,6 +211,16 @@ class KeepingTests(unittest.TestCase):
 
 class OrderTests(unittest.TestCase):
     """The error that is named first is raised, and of several arguments that of the first one."""
+
+    def test_forms_are_refused_next(self):
+        for call in (forms.shape, forms.is_sure, forms.form_lasts, forms.danger, forms.harms, forms.refusal, forms.mended,
+                     forms.mended_lasting):
+            for form, place in ((["a"], ()), (("a",) * 21, ()), (("-x", "A", None), (1,)), ((("", "x"), ("", "")), (1,))):
+                with self.assertRaises(errors.BadForm) as caught:
+                    call(EXAMPLE, form)
+                self.assertEqual(caught.exception.place, place)
+                with self.assertRaises(errors.BadGrammar):
+                    call(EXAMPLE[:2], form)
 
     def test_a_bad_grammar_comes_ahead_of_a_bad_line(self):
         for call in (reading.meaning, reading.lasts):
@@ -226,9 +296,18 @@ class KindsTests(unittest.TestCase):
         self.assertEqual({pair.__class__ for pair in keeping.keepers(ROW)}, {tuple})
         self.assertIs(wishes.roots(EXAMPLE).__class__, tuple)
         self.assertIs(wishes.fits(EXAMPLE, WISHES), False)
+        for call in (forms.is_sure, forms.form_lasts):
+            self.assertIs(call(EXAMPLE, FORM), False)
+            self.assertIs(call(EXAMPLE, ("--color", ("", "x"))), True)
+        self.assertIs(forms.harms(EXAMPLE, FORM).__class__, dict)
+        for told in (forms.holes(FORM), forms.danger(EXAMPLE, FORM), forms.refusal(EXAMPLE, FORM), texts.read_form("{x}")):
+            self.assertIs(told.__class__, tuple)
 
     def test_numbers_are_never_true_or_false(self):
-        for told in (keeping.keepers(ROW), keeping.oldest(ROW), wishes.choice(grammar(), WISHES)):
+        one = releases.Releases(EXAMPLE)
+        counts = [one.force(EXAMPLE), one.release(EXAMPLE), len(one), one.kept_from(), forms.form_size(("",))]
+        shown = [forms.shape(EXAMPLE, FORM), forms.shape(grammar([("ab", "", "maybe")]), ("--ab",))]
+        for told in (keeping.keepers(ROW), keeping.oldest(ROW), wishes.choice(grammar(), WISHES), counts, shown):
             self.assertNotIn(bool, [part.__class__ for part in self.parts(told)])
 
     def parts(self, thing):

@@ -31,7 +31,15 @@ WORDS_BARRED = """type typing typing_extensions enum Enum IntEnum StrEnum Flag I
 ABCMeta namedtuple NamedTuple TypedDict TYPE_CHECKING abstractmethod""".split()
 
 STATEMENTS_BARRED = (ast.Global, ast.AsyncFunctionDef, ast.AsyncFor, ast.AsyncWith, ast.Await, ast.Div,
-                     ast.GeneratorExp)
+                     ast.GeneratorExp, ast.Yield, ast.YieldFrom)
+
+METHODS_OF_VALUES = """append clear copy count endswith extend find get index insert isalnum isalpha isdigit islower
+isspace isupper items join keys ljust lower lstrip partition pop remove replace reverse rfind rjust rpartition rsplit
+rstrip setdefault split splitlines startswith strip update upper values zfill bit_length __init__""".split()
+
+# What a method or an attribute of a class may not be called, as methods of builtin values are.
+ATTRIBUTES_BARRED = """items keys values pop update append clear extend insert remove reverse setdefault sort args
+encode decode hex fromhex format mro""".split()
 
 
 def bound_names(tree):
@@ -80,10 +88,21 @@ class LanguageTests(unittest.TestCase):
                 if isinstance(node, ast.Expr):
                     self.assertIsInstance(node.value, ast.Constant, name)
                 elif isinstance(node, ast.Assign):
-                    ast.literal_eval(node.value)
+                    self.check_value(node, [own.name for own in tree.body if isinstance(own, ast.FunctionDef)
+                                            and own.lineno < node.lineno])
                     self.assertIsInstance(node.targets[0], ast.Name, name)
                 else:
                     self.assertIsInstance(node, (ast.ImportFrom, ast.FunctionDef, ast.ClassDef), name)
+
+    def check_value(self, node, functions):
+        """A plain value, or a dict from those to functions that are defined above."""
+        if isinstance(node.value, ast.Dict) and isinstance(node.value.values[0], ast.Name):
+            for value in node.value.values:
+                self.assertIn(value.id, functions)
+            for key in node.value.keys:
+                ast.literal_eval(key)
+        else:
+            ast.literal_eval(node.value)
 
     def test_imports(self):
         uses = {}
@@ -156,7 +175,13 @@ class LanguageTests(unittest.TestCase):
         for name, node in self.nodes():
             self.assertNotIsInstance(node, STATEMENTS_BARRED, name)
             if isinstance(node, ast.FunctionDef):
+                self.assertIn([ast.unparse(decorator) for decorator in node.decorator_list], ([], ["property"]), name)
+            if isinstance(node, ast.ClassDef):
                 self.assertEqual(node.decorator_list, [], name)
+            if isinstance(node, ast.Call):
+                for argument in node.args:
+                    if isinstance(argument, ast.Starred):
+                        self.assertIsInstance(argument.value, (ast.Name, ast.Attribute), name)
             if isinstance(node, ast.ExceptHandler):
                 self.assertIsNotNone(node.type, name)
 
@@ -175,6 +200,42 @@ class LanguageTests(unittest.TestCase):
             if isinstance(node, ast.Attribute):
                 self.assertNotIn(node.attr, WORDS_BARRED, name)
                 self.assertFalse(node.attr.startswith("__") and node.attr not in METHODS, (name, node.attr))
+
+    def own_methods(self):
+        return {node.name for _, node in self.nodes() if isinstance(node, ast.FunctionDef)}
+
+    def own_attributes(self):
+        return {node.attr for _, node in self.nodes()
+                if isinstance(node, ast.Attribute) and isinstance(node.ctx, ast.Store)}
+
+    def test_methods_that_are_called(self):
+        known = self.own_methods() | set(METHODS_OF_VALUES)
+        for name, node in self.nodes():
+            if isinstance(node, ast.Call) and isinstance(node.func, ast.Attribute):
+                self.assertIn(node.func.attr, known, name)
+
+    def test_attributes(self):
+        known = self.own_methods() | self.own_attributes() | set(METHODS_OF_VALUES)
+        for name, node in self.nodes():
+            if isinstance(node, ast.Attribute):
+                self.assertIn(node.attr, known, name)
+        self.assertFalse(self.own_attributes() & set(ATTRIBUTES_BARRED))
+
+    def test_classes(self):
+        for name, tree in self.trees.items():
+            for node in tree.body:
+                if isinstance(node, ast.ClassDef):
+                    methods = [own.name for own in node.body if isinstance(own, ast.FunctionDef)]
+                    self.assertEqual(len(set(methods)), len(methods), (name, node.name))
+                    stored = {own.attr for own in ast.walk(node) if isinstance(own, ast.Attribute)
+                              and isinstance(own.ctx, ast.Store) and isinstance(own.value, ast.Name)}
+                    self.assertFalse(stored & set(methods), (name, node.name))
+                    if "__getitem__" in methods:
+                        self.assertIn("__iter__", methods)
+                    for own in node.body:
+                        if isinstance(own, ast.FunctionDef) and own.name == "__exit__":
+                            for row in own.body:
+                                self.assertIsInstance(row, ast.Assign)
 
 
 if __name__ == "__main__":
