@@ -22,12 +22,20 @@ def keeps_kind(old, new, name):
 
 
 def keeps_option(old, new, name):
-    """Whether the LINEs that give an OPTION of the old Rules can keep their MEANINGs."""
+    """Whether an OPTION of the old Rules has a KIND and a LETTER that keep its MEANINGs."""
     letter = old.own_letters[name]
-    if not keeps_kind(old, new, name) or (letter != "" and new.letters.get(letter) != name):
-        return False
-    # Where the shortest TELLING is kept, no other NAME of the new Rules begins with it.
-    return new.tells(old.least_telling(name)) == name
+    return keeps_kind(old, new, name) and (letter == "" or new.letters.get(letter) == name)
+
+
+def lost_options(old, new):
+    """A dict from the NAMEs of OPTIONs whose LINEs do not all keep their MEANINGs to their shortest TELLINGs."""
+    told = old.least_tellings()
+    later = new.least_tellings()
+    # Where the shortest TELLING is kept, all of them are: no other NAME of the new Rules begins with it.
+    return {
+        name: told[name] for name in told
+        if not keeps_option(old, new, name) or len(told[name]) < len(later[name])
+    }
 
 
 def keeps_numbers(old, new):
@@ -56,11 +64,9 @@ def dealt_otherwise(old, new):
 
 def keeps_by(old, new):
     """Whether the new Rules keep the old ones, by the Fact of [9]."""
-    if not all([keeps_option(old, new, name) for name in old.kinds]):
-        return False
     if not keeps_numbers(old, new) or not keeps_mixing(old, new):
         return False
-    return dealt_otherwise(old, new) is None
+    return not lost_options(old, new) and dealt_otherwise(old, new) is None
 
 
 def number_line(rules):
@@ -105,10 +111,10 @@ def parted_by(old, new):
     count = dealt_otherwise(old, new)
     if count is not None:
         lines.append(("",) * count)
-    for name in old.kinds:
-        # The LINEs of the other OPTIONs are parted only where a shorter one is.
-        if not keeps_option(old, new, name):
-            lines.extend(option_lines(old, name, [old.least_telling(name)]))
+    # The LINEs of the other OPTIONs are parted only where a shorter one is.
+    lost = lost_options(old, new)
+    for name in lost:
+        lines.extend(option_lines(old, name, [lost[name]]))
     for line in sorted(lines, key=size_of):
         if meaning_by(old, line) != meaning_by(new, line):
             return line
@@ -122,8 +128,11 @@ def trials(rules):
         lines.append(number_line(rules))
     if rules.takes_words(1 if rules.mixed else 2):
         lines.append(closing_line(rules))
-    for name in rules.kinds:
-        lines.extend(option_lines(rules, name, rules.tellings_of(name)))
+    least = rules.least_tellings()
+    for name in least:
+        # No other NAME begins with a shortening, so all that is longer tells the same.
+        told = [name[:end] for end in range(len(least[name]), len(name) + 1)]
+        lines.extend(option_lines(rules, name, told))
     return lines
 
 

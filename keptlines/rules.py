@@ -4,6 +4,16 @@ from keptlines.errors import BadGrammar
 from keptlines.grammars import need_grammar, reads_numbers, shares, span
 
 
+def shared(one, other):
+    """With how many of the same SIGNs two NAMEs begin."""
+    count = 0
+    for sign, same in zip(one, other):
+        if sign != same:
+            return count
+        count += 1
+    return count
+
+
 class Rules:
     """What one GRAMMAR says; nothing is changed after it was made."""
 
@@ -27,21 +37,21 @@ class Rules:
         found = [name for name in self.kinds if name.startswith(told)]
         return found[0] if len(found) == 1 else None
 
-    def least_telling(self, name):
-        """The shortest of the TELLINGs of an OPTION."""
-        for end in range(1, len(name)):
-            if self.tells(name[:end]) == name:
-                return name[:end]
-        return name
-
-    def tellings_of(self, name):
-        """All TELLINGs of an OPTION, the shortest one first."""
-        # No other NAME begins with a shortening, so all that is longer tells the same.
-        return [name[:end] for end in range(len(self.least_telling(name)), len(name) + 1)]
+    def least_tellings(self):
+        """A dict from the NAMEs of the OPTIONs to the shortest of their TELLINGs."""
+        if not self.short:
+            return {name: name for name in self.kinds}
+        names = sorted(self.kinds)
+        needed = {name: 1 for name in names}
+        # In order, no NAME shares more with a NAME than one of its two neighbours does.
+        for low, high in zip(names, names[1:]):
+            needed[high] = shared(low, high) + 1
+            needed[low] = max(needed[low], needed[high])
+        return {name: name[:needed[name]] for name in self.kinds}
 
     def roots(self):
         """The ROOTs, ascending: the least shortenings of the OPTIONs that have one."""
-        least = {name: self.least_telling(name) for name in self.kinds}
+        least = self.least_tellings()
         return sorted([least[name] for name in least if least[name] != name])
 
     def takes_words(self, count):

@@ -162,8 +162,7 @@ def spelled(all_rules, told, thing, lasting):
 
 def least_by(rules, thing):
     """The least LINE that has a MEANING, or the least FORM that is SURE and has a SHAPE, by the Rules."""
-    told = {name: rules.least_telling(name) for name, _ in thing[0]}
-    return spelled([rules], told, thing, False)
+    return spelled([rules], rules.least_tellings(), thing, False)
 
 
 def least_lasting_by(rules, thing):
@@ -198,10 +197,11 @@ def agree(all_rules):
     return True
 
 
-def told_by_all(all_rules, name):
-    """The shortest of the TELLINGs that tell an OPTION of this NAME by all Rules."""
+def told_by_all(all_rules, names):
+    """A dict from these NAMEs, which all Rules have, to the shortest of the TELLINGs that tell them by all Rules."""
+    tables = [rules.least_tellings() for rules in all_rules]
     # Where a shorter TELLING is one, so is each longer one.
-    return max([rules.least_telling(name) for rules in all_rules], key=len)
+    return {name: max([least[name] for least in tables], key=len) for name in names}
 
 
 def least_common(grammars, meaning):
@@ -212,5 +212,5 @@ def least_common(grammars, meaning):
     need_meaning_by(all_rules[0], meaning)
     if not all([is_meaning_by(rules, meaning) for rules in all_rules]):
         return None
-    told = {name: told_by_all(all_rules, name) for name, _ in meaning[0]}
+    told = told_by_all(all_rules, [name for name, _ in meaning[0]])
     return spelled(all_rules, told, meaning, False)
