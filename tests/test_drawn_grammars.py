@@ -6,9 +6,12 @@ from time import perf_counter
 
 import drawn
 import pool
+import samples
 from keptlines.grammars import tellings
 from keptlines.keeping import keeps, parted, touchstones
 from keptlines.reading import meaning
+from keptlines.rules import Rules
+from keptlines.wishes import roots
 from samples import grammar
 
 
@@ -44,6 +47,7 @@ class AllPairsTests(unittest.TestCase):
         found = [drawn.draw_grammar(draw, 3) for _ in range(75)]
         # Those that differ in little keep each other, or are parted by few LINEs.
         found.extend([drawn.changed_grammar(draw, draw.choice(found)) for _ in range(90)])
+        found.extend([grammar((), samples.many_places(many), modes) for many in (3, 5) for modes in samples.ALL_MODES])
         cls.grammars = list(dict.fromkeys(found))
         cls.lines = [lines_of_the_fact(one) for one in cls.grammars]
         cls.told = [[meaning(one, line) for line in lines] for one, lines in zip(cls.grammars, cls.lines)]
@@ -75,6 +79,14 @@ class AllPairsTests(unittest.TestCase):
         for m, old in enumerate(self.grammars):
             new = self.grammars[m - 1]
             self.assertEqual(parted(old, new), parted(eval(repr(old)), eval(repr(new))))
+
+    def test_the_shortest_tellings_and_roots(self):
+        for one in self.grammars:
+            least = {}
+            for telling, name in tellings(one).items():
+                least[name] = min(telling, least.get(name, telling), key=len)
+            self.assertEqual(Rules(one).least_tellings(), least, one)
+            self.assertEqual(roots(one), tuple(sorted(least[name] for name in least if least[name] != name)))
 
     def test_touchstones_tell_who_keeps(self):
         for old in self.grammars:

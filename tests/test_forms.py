@@ -262,6 +262,20 @@ class HarmTests(Refusals):
         off = grammar(one[0], MANY, (True, False, True))
         self.harmed(off, (X, "--force"), ["ab", "force"])
 
+    def test_letters_that_are_read_once_more(self):
+        # With nothing in the first HOLE "--" is a value, and "-v" gives an OPTION.
+        one = grammar([("ab", "a", "last"), ("force", "f", "flag"), ("size", "s", "all"), ("verbose", "v", "count")], MANY)
+        self.harmed(one, (("-a", "x"), "--", ("-v", "y")), ["force", "size", "verbose"])
+        self.harmed(one, (("-a", "x"), "--", ("-vs", "y")), ["size", "verbose"])
+        self.harmed(one, (("-a", "x"), "--", ("-z", "y")), [])
+        self.harmed(one, (("-a", "x"), "--", ("z", "y")), [], False)
+
+    def test_an_option_that_would_get_a_second_value_ahead_of_another_one(self):
+        for kind, names in (("once", []), ("all", ["force"])):
+            one = grammar([("ab", "a", "last"), ("cd", "c", kind), ("force", "", "flag")], MANY)
+            self.harmed(one, ("-c1", ("-a", "x"), "--", "--cd=2", "--force"), names, kind == "once")
+            self.harmed(one, ("-c1", ("-a", "x"), "--", ("--cd=", "y"), "--force"), names, kind == "once")
+
     def test_options_that_get_one_value(self):
         one = grammar([("ab", "a", "once"), ("cd", "c", "once")], MANY, (True, False, True))
         self.harmed(one, (X, "--ab=x"), ["ab", "cd"])
